@@ -1,0 +1,1 @@
+"""Fullhands: dishes handed on along fixed ways, and when hands fill up for good."""

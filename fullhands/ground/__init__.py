@@ -1,0 +1,1 @@
+"""The ground: tables and their text."""

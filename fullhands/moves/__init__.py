@@ -1,0 +1,1 @@
+"""Standings of a table and the moves between them."""

@@ -1,0 +1,96 @@
+"""The names and arguments of the interface, where they are defined, and the sizes of the files."""
+
+import ast
+import importlib
+import inspect
+import pathlib
+import unittest
+
+import fullhands
+
+FOLDER = pathlib.Path(fullhands.__file__).parent
+FILES = sorted(FOLDER.rglob("*.py"))
+
+FUNCTIONS = {
+    "fullhands.ground.text": {"table_text": "(table)", "read_table": "(text)"},
+    "fullhands.moves.step": {
+        "after": "(standing, move)", "possible": "(standing, *, enters=True)", "back": "(standing)",
+    },
+}
+METHODS = {
+    ("fullhands.ground.table", "Table"): {
+        "__init__": "(self, hands, ties, kinds, *, quick=(), shares=())", "neighbours": "(self, person)",
+        "is_tied": "(self, person, other)", "is_quick": "(self, person, other)", "wants": "(self, kind, person)",
+        "steps_to": "(self, kind, person)", "share_of": "(self, kind)", "is_tree": "(self)", "is_round": "(self)",
+        "has_one_hand": "(self)", "with_hands": "(self, person, many)", "with_most": "(self, kind, most)",
+        "with_quick": "(self, person, other)", "without_quick": "(self, person, other)",
+        "with_kind": "(self, way, most)", "without_kind": "(self, kind)", "with_person": "(self, person, many)",
+        "renumbered": "(self, order)",
+    },
+    ("fullhands.moves.standing", "Standing"): {
+        "__init__": "(self, table, places)", "held": "(self, person)", "free": "(self, person)",
+        "dishes": "(self, kind, person)", "out": "(self, kind)", "full": "(self)", "wanted_from": "(self, person)",
+    },
+}
+PROPERTIES = {
+    ("fullhands.ground.table", "Table"): ["people"],
+    ("fullhands.moves.standing", "Standing"): ["total", "left"],
+}
+
+
+def own(module, name):
+    value = vars(importlib.import_module(module))[name]
+    return value if value.__module__ == module else None
+
+
+class Interface(unittest.TestCase):
+    def test_functions(self):
+        for module, functions in FUNCTIONS.items():
+            for name, arguments in functions.items():
+                self.assertEqual(str(inspect.signature(own(module, name))), arguments, name)
+
+    def test_methods(self):
+        for (module, name), methods in METHODS.items():
+            for method, arguments in methods.items():
+                found = vars(own(module, name))[method]
+                self.assertEqual(str(inspect.signature(found)), arguments, method)
+
+    def test_properties(self):
+        for (module, name), properties in PROPERTIES.items():
+            for found in properties:
+                self.assertIsInstance(vars(own(module, name))[found], property)
+
+    def test_static_method(self):
+        found = vars(own("fullhands.moves.standing", "Standing"))["empty"]
+        self.assertIsInstance(found, staticmethod)
+        self.assertEqual(str(inspect.signature(found.__func__)), "(table)")
+
+
+class Files(unittest.TestCase):
+    def test_each_folder_is_a_package(self):
+        for file in FILES:
+            self.assertTrue((file.parent / "__init__.py").exists(), file)
+
+    def test_sizes(self):
+        for file in FILES:
+            lines = file.read_text().split("\n")
+            self.assertLessEqual(len(lines) - 1, 399, file)
+            self.assertLessEqual(max([len(line) for line in lines]), 120, file)
+            for node in ast.walk(ast.parse(file.read_text())):
+                if isinstance(node, ast.FunctionDef):
+                    self.assertLessEqual(node.end_lineno - node.lineno + 1, 40, (file, node.name))
+
+    def test_characters(self):
+        for file in FILES:
+            for sign in file.read_text():
+                self.assertTrue(sign == "\n" or " " <= sign <= "~", (file, sign))
+
+    def test_imports_name_the_file_that_defines(self):
+        for file in FILES:
+            for node in ast.walk(ast.parse(file.read_text())):
+                self.assertNotIsInstance(node, ast.Import, file)
+                if isinstance(node, ast.ImportFrom):
+                    self.assertEqual((node.level, node.module.split(".")[0]), (0, "fullhands"), file)
+                    for name in node.names:
+                        value = getattr(importlib.import_module(node.module), name.name)
+                        self.assertEqual(getattr(value, "__module__", node.module), node.module, file)
