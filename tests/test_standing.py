@@ -60,6 +60,11 @@ class Building(unittest.TestCase):
                 self.assertEqual(standing.places, ())
                 self.assertEqual((standing.held(0), standing.free(0), standing.wanted_from(0)), (0, 1, ()))
                 self.assertEqual((standing.total, standing.left), (0, 0))
+            for call in (standing.held, standing.free, standing.wanted_from):
+                for person in (ground.people, -1):
+                    self.assertEqual(refused(call, person), no_such("person"))
+            self.assertEqual(refused(standing.out, 0), no_such("kind"))
+            self.assertEqual(refused(standing.dishes, 0, 0), no_such("kind"))
         self.assertEqual(refused(Standing, Table([1], [], []), [[]]), bad_standing("rows", 1))
 
 

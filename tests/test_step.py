@@ -95,6 +95,7 @@ def small_tables():
         Table([1, 1], [(0, 1)], []),
         Table([1, 1], [(0, 1)], [((0, 1), 1), ((1, 0), 1)], quick=[(0, 1)]),
         Table([1, 2, 1], row, [((0, 1, 2), 3), ((2, 1), 1)]),
+        Table([1, 2, 1], row, [((1, 2), 1), ((2, 1, 0), 2), ((0, 1, 2), 2), ((1, 0), 1)], quick=row),
         Table([2, 2, 1], row, [((0, 1, 2), 3), ((2, 1, 0), 2), ((1, 0), 1)], quick=row),
         Table([1, 2, 2], row, [((0, 1, 2), 2), ((2, 1, 0), 2), ((1, 2), 2)], quick=[(1, 2)], shares=[((0, 2), 2)]),
         Table([2, 1, 2], row, [((0, 1, 2), 2), ((2, 1, 0), 2), ((2, 1), 0)], shares=[((0, 1), 2), ((2,), 1)]),
@@ -299,6 +300,13 @@ class Possible(unittest.TestCase):
         ])
         self.assertEqual(moves(standing, enters=False), moves(standing)[4:])
 
+    def test_swaps_are_ordered_by_their_kinds_ahead_of_their_people(self):
+        kinds = [((1, 2), 1), ((2, 1, 0), 2), ((0, 1, 2), 2)]
+        table = Table([1, 3, 1], [(0, 1), (1, 2)], kinds, quick=[(0, 1), (1, 2)])
+        standing = Standing(table, ((1,), (1, 1), (1, 1)))
+        swaps = [("swap", 0, 1, 1, 2), ("swap", 2, 0, 1, 1), ("swap", 2, 1, 1, 2)]
+        self.assertEqual(moves(standing, enters=False), swaps)
+
     def test_enters_is_passed_by_keyword_only(self):
         with self.assertRaises(TypeError):
             list(possible(Standing.empty(Table([1], [], [])), False))
@@ -336,6 +344,17 @@ class Back(unittest.TestCase):
         self.assertEqual(found, [
             (("swap", 0, 0, 1, 1), ((1, 0), (0, 1, 0), (0, 0, 1))),
             (("swap", 0, 0, 2, 1), ((1, 0), (0, 0, 1), (0, 1, 0))),
+        ])
+
+    def test_swaps_are_ordered_by_their_kinds_ahead_of_their_people(self):
+        kinds = [((1, 2, 3), 1), ((3, 2, 1, 0, 4), 2), ((0, 1, 2), 1)]
+        ties = [(0, 1), (1, 2), (2, 3), (0, 4)]
+        table = Table([1, 2, 1, 1, 1], ties, kinds, quick=[(0, 1), (1, 2)])
+        standing = Standing(table, ((0, 1), (0, 0, 1, 1), (0, 1)))
+        found = [(move, earlier.places) for move, earlier in back(standing)]
+        self.assertEqual(found, [
+            (("swap", 0, 1, 1, 2), ((1, 0), (0, 1, 0, 1), (0, 1))),
+            (("swap", 2, 0, 1, 1), ((0, 1), (0, 0, 2, 0), (1, 0))),
         ])
 
     def test_who_passed_needs_a_free_hand(self):

@@ -29,7 +29,7 @@ def check_data(hands, ties, kinds, quick, shares):
     check_hands(hands)
     check_ties(len(hands), ties)
     check_web(len(hands), ties)
-    check_kinds(len(hands), ties, kinds)
+    check_kinds(ties, kinds)
     check_quick(ties, quick)
     check_shares(len(kinds), shares)
 
@@ -76,17 +76,16 @@ def reached_from(person, ties):
     return reached
 
 
-def check_kinds(people, ties, kinds):
+def check_kinds(ties, kinds):
     pairs = [pair_of(one, other) for one, other in ties]
     for index, (way, most) in enumerate(kinds):
-        if index >= MOST_KINDS or not is_way(people, pairs, way) or not is_bound(most):
+        if index >= MOST_KINDS or not is_way(pairs, way) or not is_bound(most):
             raise BadTable("kinds", index)
 
 
-def is_way(people, pairs, way):
+def is_way(pairs, way):
+    """True if a kind may have this way. An entry that is not a person has no tie to the one beside it."""
     if len(way) < 2 or len(set(way)) != len(way):
-        return False
-    if not all([0 <= person < people for person in way]):
         return False
     return all([pair_of(way[at], way[at + 1]) in pairs for at in range(len(way) - 1)])
 

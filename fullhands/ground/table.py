@@ -109,7 +109,7 @@ class Table:
         hands = [0] * self.people
         for person, many in enumerate(self.hands):
             hands[order[person]] = many
-        kinds = [([order[person] for person in way], most) for way, most in self.kinds]
+        kinds = [([order[member] for member in way], most) for way, most in self.kinds]
         ties = [(order[one], order[other]) for one, other in self.ties]
         quick = [(order[one], order[other]) for one, other in self.quick]
         return Table(hands, ties, kinds, quick=quick, shares=self.shares)
