@@ -16,7 +16,24 @@ FUNCTIONS = {
     "fullhands.moves.step": {
         "after": "(standing, move)", "possible": "(standing, *, enters=True)", "back": "(standing)",
     },
+    "fullhands.moves.run": {
+        "play": "(standing, run)", "trace": "(standing, run)", "run_effort": "(run)", "run_text": "(run)",
+        "read_run": "(text)",
+    },
+    "fullhands.moves.knot": {"knot": "(standing)", "settle": "(standing)"},
+    "fullhands.moves.clear": {"clearing": "(standing)", "dead_set": "(standing)", "coming": "(standing)"},
+    "fullhands.dealing.lots": {
+        "lots": "(table, *, slow=False)", "can_hold": "(table, lot, kind, person)", "supply": "(table, lot, people)",
+    },
+    "fullhands.dealing.deal": {
+        "deal": "(table, lot)", "short_set": "(table, lot)", "is_dealing": "(table, lot, dealing)",
+        "uses": "(dealing)", "dealt_standing": "(table, lot, dealing)",
+    },
+    "fullhands.dealing.core": {
+        "is_core": "(table, lot, dealing)", "core": "(table, lot, dealing)", "placing": "(table, lot, dealing)",
+    },
 }
+GENERATORS = ["possible", "back", "trace"]
 METHODS = {
     ("fullhands.ground.table", "Table"): {
         "__init__": "(self, hands, ties, kinds, *, quick=(), shares=())", "neighbours": "(self, person)",
@@ -48,6 +65,7 @@ class Interface(unittest.TestCase):
         for module, functions in FUNCTIONS.items():
             for name, arguments in functions.items():
                 self.assertEqual(str(inspect.signature(own(module, name))), arguments, name)
+                self.assertEqual(inspect.isgeneratorfunction(own(module, name)), name in GENERATORS, name)
 
     def test_methods(self):
         for (module, name), methods in METHODS.items():

@@ -1,9 +1,9 @@
-import itertools
 import unittest
 
 from fullhands.ground.table import Table
 from fullhands.moves.standing import Standing
 from fullhands.moves.step import after, back, possible
+from tests.model import Model, each_standing, small_tables
 from tests.support import cannot_move, refused
 
 
@@ -11,112 +11,11 @@ def moves(standing, **more):
     return list(possible(standing, **more))
 
 
-class Model:
-    """The points told again for plain rows, so that the program can be held against them."""
-
-    def __init__(self, table):
-        self.hands, self.kinds, self.shares = table.hands, table.kinds, table.shares
-        self.quick = set(table.quick)
-
-    def dishes(self, places):
-        """Each dish that is held, as a kind, its person and the person whom it wants."""
-        return [(kind, way[at], way[at + 1]) for kind, (way, _) in enumerate(self.kinds)
-                for at, many in enumerate(places[kind]) for _ in range(many)]
-
-    def held(self, places, person):
-        return len([dish for dish in self.dishes(places) if dish[1] == person])
-
-    def fits(self, places):
-        if any(self.held(places, person) > many for person, many in enumerate(self.hands)):
-            return False
-        if any(sum(row) > most for row, (_, most) in zip(places, self.kinds)):
-            return False
-        return all(sum(sum(places[kind]) for kind in kinds) <= bound for kinds, bound in self.shares)
-
-    def all_places(self):
-        """The places of all standings of the table, in ascending order."""
-        rows = [[row for row in itertools.product(range(5), repeat=len(way) - 1) if sum(row) <= most]
-                for way, most in self.kinds]
-        return [places for places in itertools.product(*rows) if self.fits(places)]
-
-    def all_moves(self):
-        """All moves of the three forms over the people and kinds of the table, in the order of point 15."""
-        kinds, people = range(len(self.kinds)), range(len(self.hands))
-        enters = [("enter", kind) for kind in kinds]
-        passes = [("pass", kind, person) for kind in kinds for person in self.kinds[kind][0]]
-        swaps = [("swap",) + numbers for numbers in itertools.product(kinds, people, kinds, people)]
-        return enters + passes + swaps
-
-    def reason(self, places, move):
-        return getattr(self, move[0] + "_reason")(places, *move[1:])
-
-    def enter_reason(self, places, kind):
-        way, most = self.kinds[kind]
-        if sum(places[kind]) == most:
-            return "most"
-        for kinds, bound in self.shares:
-            if kind in kinds and sum(sum(places[other]) for other in kinds) == bound:
-                return "share"
-        return "hands" if self.held(places, way[0]) == self.hands[way[0]] else None
-
-    def pass_reason(self, places, kind, person):
-        wanted = [dish[2] for dish in self.dishes(places) if dish[:2] == (kind, person)]
-        if not wanted:
-            return "none"
-        return "hands" if self.held(places, wanted[0]) == self.hands[wanted[0]] else None
-
-    def swap_reason(self, places, kind, person, other_kind, other):
-        if person >= other:
-            return "unknown"
-        if (person, other) not in self.quick:
-            return "tie"
-        dishes = self.dishes(places)
-        there = (kind, person, other) in dishes and (other_kind, other, person) in dishes
-        return None if there else "none"
-
-    def after(self, places, move):
-        rows = [list(row) for row in places]
-        if move[0] == "enter":
-            rows[move[1]][0] += 1
-        for kind, person in {"enter": [], "pass": [move[1:3]], "swap": [move[1:3], move[3:5]]}[move[0]]:
-            at = self.kinds[kind][0].index(person)
-            rows[kind][at] -= 1
-            if at + 1 < len(rows[kind]):
-                rows[kind][at + 1] += 1
-        return tuple([tuple(row) for row in rows])
-
-
-def small_tables():
-    """Tables with few enough standings to go through all of them."""
-    row = [(0, 1), (1, 2)]
-    ring = [(0, 1), (1, 2), (0, 2)]
-    return [
-        Table([1], [], []),
-        Table([1, 1], [(0, 1)], []),
-        Table([1, 1], [(0, 1)], [((0, 1), 1), ((1, 0), 1)], quick=[(0, 1)]),
-        Table([1, 2, 1], row, [((0, 1, 2), 3), ((2, 1), 1)]),
-        Table([1, 2, 1], row, [((1, 2), 1), ((2, 1, 0), 2), ((0, 1, 2), 2), ((1, 0), 1)], quick=row),
-        Table([2, 2, 1], row, [((0, 1, 2), 3), ((2, 1, 0), 2), ((1, 0), 1)], quick=row),
-        Table([1, 2, 2], row, [((0, 1, 2), 2), ((2, 1, 0), 2), ((1, 2), 2)], quick=[(1, 2)], shares=[((0, 2), 2)]),
-        Table([2, 1, 2], row, [((0, 1, 2), 2), ((2, 1, 0), 2), ((2, 1), 0)], shares=[((0, 1), 2), ((2,), 1)]),
-        Table([2, 2, 2], ring, [((0, 1, 2), 2), ((1, 2, 0), 2), ((2, 1, 0), 2)], quick=ring, shares=[((1,), 1)]),
-        Table([1, 1, 1, 1], [(0, 3), (1, 3), (2, 3)],
-              [((0, 3, 1), 1), ((1, 3, 2), 1), ((2, 3, 0), 2), ((3, 0), 1), ((1, 3, 0), 1)],
-              quick=[(0, 3), (2, 3)], shares=[((3, 4), 1)]),
-    ]
-
-
 class AgainstTheModel(unittest.TestCase):
     """All standings of small tables."""
 
-    def each(self):
-        for table in small_tables():
-            model = Model(table)
-            for places in model.all_places():
-                yield model, Standing(table, places)
-
     def test_reasons_and_standings_after(self):
-        for model, standing in self.each():
+        for model, standing in each_standing():
             before = standing.places
             for move in model.all_moves():
                 reason = model.reason(before, move)
@@ -129,7 +28,7 @@ class AgainstTheModel(unittest.TestCase):
             self.assertEqual(standing.places, before)
 
     def test_possible(self):
-        for model, standing in self.each():
+        for model, standing in each_standing():
             expected = [move for move in model.all_moves() if model.reason(standing.places, move) is None]
             self.assertEqual(moves(standing), expected)
             self.assertEqual(moves(standing, enters=True), expected)
@@ -151,7 +50,7 @@ class AgainstTheModel(unittest.TestCase):
                 self.assertEqual(found, expected)
 
     def test_every_back_move_leads_back(self):
-        for _, standing in self.each():
+        for _, standing in each_standing():
             for move, earlier in back(standing):
                 self.assertIs(earlier.table, standing.table)
                 later = after(earlier, move)
@@ -159,7 +58,7 @@ class AgainstTheModel(unittest.TestCase):
                 self.assertEqual(later.total, earlier.total + (move[0] == "enter"))
 
     def test_without_duplicates(self):
-        for _, standing in self.each():
+        for _, standing in each_standing():
             found = moves(standing)
             self.assertEqual(len(set(found)), len(found))
             taken = [move for move, _ in back(standing)]

@@ -1,6 +1,6 @@
-"""The rules for the data of a table, and for numbers that are passed in as people and kinds."""
+"""The rules for the data of a table, and for what is passed in beside a table."""
 
-from fullhands.errors import BadTable, NoSuch
+from fullhands.errors import BadTable, NoSuch, WrongGround
 
 MOST_PEOPLE = 6
 MOST_HANDS = 4
@@ -17,6 +17,11 @@ def need_person(table, person):
 def need_kind(table, kind):
     if not 0 <= kind < len(table.kinds):
         raise NoSuch("kind")
+
+
+def need_tree(table):
+    if not table.is_tree():
+        raise WrongGround("tree")
 
 
 def pair_of(person, other):

@@ -6,9 +6,14 @@ from fullhands.moves.standing import Standing
 
 def after(standing, move):
     """The standing after this move. Raises CannotMove."""
+    return after_at(standing, move, 0)
+
+
+def after_at(standing, move, index):
+    """The standing after the move with this index of a run. Raises CannotMove with the index."""
     reason = refusal(standing, move)
     if reason is not None:
-        raise CannotMove(0, reason)
+        raise CannotMove(index, reason)
     return changed(standing, changes_of(standing.table, move), 1)
 
 

@@ -1,0 +1,1 @@
+"""Dealing dishes out to lots of people."""
