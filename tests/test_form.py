@@ -32,8 +32,22 @@ FUNCTIONS = {
     "fullhands.dealing.core": {
         "is_core": "(table, lot, dealing)", "core": "(table, lot, dealing)", "placing": "(table, lot, dealing)",
     },
+    "fullhands.dealing.verdict": {"read_verdict": "(text)"},
+    "fullhands.dealing.judge": {"judge": "(table)", "no_lot": "(table)"},
+    "fullhands.least.effort": {"least_effort": "(table)", "effort_certificate": "(table)"},
+    "fullhands.hosts.program": {
+        "program_text": "(program)", "read_program": "(text)", "sends": "(program, host)", "reduced": "(program)",
+    },
+    "fullhands.hosts.choice": {
+        "first_moves": "(table, program, host, send)", "total_moves": "(table, program)", "choices": "(program)",
+        "choice_table": "(table, program, choice)",
+    },
+    "fullhands.hosts.judge": {
+        "judge_program": "(table, program)", "moves_to_knot": "(table, program)",
+        "schedule_to_knot": "(table, program)",
+    },
 }
-GENERATORS = ["possible", "back", "trace"]
+GENERATORS = ["possible", "back", "trace", "choices"]
 METHODS = {
     ("fullhands.ground.table", "Table"): {
         "__init__": "(self, hands, ties, kinds, *, quick=(), shares=())", "neighbours": "(self, person)",
@@ -48,6 +62,11 @@ METHODS = {
         "__init__": "(self, table, places)", "held": "(self, person)", "free": "(self, person)",
         "dishes": "(self, kind, person)", "out": "(self, kind)", "full": "(self)", "wanted_from": "(self, person)",
     },
+    ("fullhands.dealing.verdict", "Verdict"): {"text": "(self)"},
+    ("fullhands.dealing.verdict", "StuckVerdict"): {
+        "__init__": "(self, lot, dealing, run)", "holds": "(self, table)",
+    },
+    ("fullhands.dealing.verdict", "SafeVerdict"): {"__init__": "(self, ground, shorts)", "holds": "(self, table)"},
 }
 PROPERTIES = {
     ("fullhands.ground.table", "Table"): ["people"],

@@ -15,11 +15,7 @@ def deal(table, lot):
     need_lot(table, lot)
     flow = flow_of(table, lot)
     flow.fill(HANDS, BOUNDS)
-    kinds = range(len(table.kinds))
-    rows = [[flow.along(("person", person), ("kind", kind)) for kind in kinds] for person in lot]
-    if any([sum(row) < table.hands[person] for person, row in zip(lot, rows)]):
-        return None
-    return tuple([tuple(row) for row in rows])
+    return rows_along(table, lot, flow)
 
 
 def short_set(table, lot):
@@ -77,6 +73,28 @@ def is_within_bounds(table, used):
     return all([sum([used[kind] for kind in kinds]) <= bound for kinds, bound in table.shares])
 
 
+def dealing_cost(table, lot, dealing):
+    """The sum, over the dishes dealt, of one plus the passes that bring the dish to its person."""
+    cost = 0
+    for person, row in zip(lot, dealing):
+        cost += sum([many * dish_cost(table, kind, person) for kind, many in enumerate(row) if many > 0])
+    return cost
+
+
+def dish_cost(table, kind, person):
+    """The enter and the passes that bring a dish of this kind to a person on its way."""
+    return 1 + table.steps_to(kind, person)
+
+
+def rows_along(table, lot, flow):
+    """The dealing whose dishes go along this flow, or None if they do not fill all hands."""
+    kinds = range(len(table.kinds))
+    rows = [[flow.along(("person", person), ("kind", kind)) for kind in kinds] for person in lot]
+    if any([sum(row) < table.hands[person] for person, row in zip(lot, rows)]):
+        return None
+    return tuple([tuple(row) for row in rows])
+
+
 def flow_of(table, lot):
     """A flow in which dealt dishes go from hands by people, kinds and shares to bounds; nothing goes yet."""
     flow = Flow()
@@ -87,7 +105,7 @@ def flow_of(table, lot):
     for kind, (_, most) in enumerate(table.kinds):
         for person in lot:
             if can_get(table, lot, kind, person):
-                flow.add_arc(("person", person), ("kind", kind), plenty)
+                flow.add_arc(("person", person), ("kind", kind), plenty, dish_cost(table, kind, person))
         share = table.share_of(kind)
         flow.add_arc(("kind", kind), BOUNDS if share is None else ("share", share), most)
     for share, (_, bound) in enumerate(table.shares):

@@ -1,4 +1,4 @@
-"""The greatest flow through a small web of arcs."""
+"""The greatest flow through a small web of arcs, also at the least cost."""
 
 
 class Flow:
@@ -7,13 +7,18 @@ class Flow:
     def __init__(self):
         # How much more may go from one place to the next one; what goes may also be taken back.
         self._spare = {}
+        # What one more costs on its way from one place to the next one.
+        self._cost = {}
 
-    def add_arc(self, start, end, most):
+    def add_arc(self, start, end, most, cost=0):
+        """Add an arc along which at most this much may go, each at this cost, which is not below 0."""
         for place in (start, end):
             if place not in self._spare:
                 self._spare[place] = {}
         self._spare[start][end] = most
         self._spare[end][start] = 0
+        self._cost[(start, end)] = cost
+        self._cost[(end, start)] = -cost
 
     def along(self, start, end):
         """How much goes along this arc, 0 if there is no such arc."""
@@ -26,6 +31,41 @@ class Flow:
             self._push(before, end)
             before = self._before(start)
         return list(before)
+
+    def fill_cheaply(self, start, end):
+        """Let as much go from the start to the end as can, at the least cost, where nothing went before."""
+        _, before = self._cheapest([start])
+        while end in before:
+            self._push(before, end)
+            _, before = self._cheapest([start])
+
+    def levels(self):
+        """A number for each place such that along no arc with something to spare it rises by more than the cost.
+
+        There are such numbers only if nothing could go from place to place at a lower cost.
+        """
+        levels, _ = self._cheapest(list(self._spare))
+        return levels
+
+    def _cheapest(self, starts):
+        """The least cost to come from a start to each place that can be reached, and the place before it.
+
+        No circle of arcs has a cost below 0, so that the costs stop getting lower.
+        """
+        costs = {start: 0 for start in starts}
+        before = {start: None for start in starts}
+        line = list(starts)
+        at = 0
+        while at < len(line):
+            place = line[at]
+            for end, spare in self._spare[place].items():
+                cost = costs[place] + self._cost[(place, end)]
+                if spare > 0 and (end not in costs or cost < costs[end]):
+                    costs[end] = cost
+                    before[end] = place
+                    line.append(end)
+            at += 1
+        return (costs, before)
 
     def _before(self, start):
         """Each place that can be reached by arcs with something to spare, with the place before it.

@@ -33,6 +33,19 @@ def supply(table, lot, people):
     return many
 
 
+def is_short(table, lot, people):
+    """True if the people are a short set of the lot, in ascending order. Raises BadLot for the lot."""
+    need_lot(table, lot)
+    if list(people) != sorted(set(people)) or not is_part(lot, people):
+        return False
+    return lot_hands(table, people) > supply(table, lot, people)
+
+
+def lot_hands(table, people):
+    """How many hands these people have together."""
+    return sum([table.hands[person] for person in people])
+
+
 def need_lot(table, lot):
     if not is_lot(table, lot):
         raise BadLot()

@@ -2,7 +2,7 @@
 
 from fullhands.errors import BadText
 from fullhands.ground.table import Table
-from fullhands.ground.words import join_words, read_numbers
+from fullhands.ground.words import join_words, read_numbers, read_row
 
 GROUPS = ("tie", "kind", "share", "quick")
 JOINTS = {"kind": "via", "share": "of"}
@@ -21,7 +21,7 @@ def table_text(table):
 def read_table(text):
     """The table of a text. Raises BadText, BadTable."""
     lines = text.split("\n")
-    hands = read_hands(lines[0])
+    hands = read_row(lines[0], "hands")
     if hands is None:
         raise BadText(1)
     found = {group: [] for group in GROUPS}
@@ -34,14 +34,6 @@ def read_table(text):
         reached = GROUPS.index(words[0])
         found[words[0]].append(entry)
     return Table(hands, found["tie"], found["kind"], quick=found["quick"], shares=found["share"])
-
-
-def read_hands(line):
-    """The numbers of a hands line, or None if the line is none."""
-    words = line.split(" ")
-    if words[0] != "hands" or len(words) < 2:
-        return None
-    return read_numbers(words[1:])
 
 
 def read_entry(words):

@@ -18,3 +18,11 @@ def read_numbers(words):
 def join_words(words):
     """The words and numbers as one line."""
     return " ".join([str(word) for word in words])
+
+
+def read_row(line, word):
+    """The numbers of a line such as `hands N N ..` that begins with this word, or None if it has another form."""
+    words = line.split(" ")
+    if words[0] != word or len(words) < 2:
+        return None
+    return read_numbers(words[1:])

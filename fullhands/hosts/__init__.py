@@ -1,0 +1,1 @@
+"""Hosts that send dishes by programs."""

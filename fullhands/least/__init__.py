@@ -1,0 +1,1 @@
+"""What it takes at least to get stuck."""
