@@ -46,8 +46,21 @@ FUNCTIONS = {
         "judge_program": "(table, program)", "moves_to_knot": "(table, program)",
         "schedule_to_knot": "(table, program)",
     },
+    "fullhands.least.dishes": {"least_dishes": "(table)", "dishes_certificate": "(table)"},
+    "fullhands.least.front": {
+        "front": "(table)", "stuck_within": "(table, *, most_dishes=None, most_effort=None)",
+    },
+    "fullhands.least.counts": {
+        "dealings": "(table, lot)", "count_dealings": "(table, lot)", "dealing_at": "(table, lot, index)",
+        "index_of": "(table, lot, dealing)",
+    },
+    "fullhands.bounds.vectors": {
+        "danger_of": "(table)", "stuck_with": "(table, mosts, *, shares=(), at_once=None)",
+        "alike_bounds": "(one, other)",
+    },
+    "fullhands.remedies.blocker": {"least_sets": "(sets)", "blocker": "(sets)"},
 }
-GENERATORS = ["possible", "back", "trace", "choices"]
+GENERATORS = ["possible", "back", "trace", "choices", "dealings"]
 METHODS = {
     ("fullhands.ground.table", "Table"): {
         "__init__": "(self, hands, ties, kinds, *, quick=(), shares=())", "neighbours": "(self, person)",
@@ -67,6 +80,11 @@ METHODS = {
         "__init__": "(self, lot, dealing, run)", "holds": "(self, table)",
     },
     ("fullhands.dealing.verdict", "SafeVerdict"): {"__init__": "(self, ground, shorts)", "holds": "(self, table)"},
+    ("fullhands.bounds.danger", "Danger"): {
+        "__init__": "(self, size, rows)", "__iter__": "(self)", "__len__": "(self)", "__contains__": "(self, row)",
+        "__or__": "(self, other)", "__and__": "(self, other)", "__eq__": "(self, other)", "beside": "(self, other)",
+        "tops": "(self)", "parting": "(self, other)",
+    },
 }
 PROPERTIES = {
     ("fullhands.ground.table", "Table"): ["people"],
@@ -97,10 +115,12 @@ class Interface(unittest.TestCase):
             for found in properties:
                 self.assertIsInstance(vars(own(module, name))[found], property)
 
-    def test_static_method(self):
-        found = vars(own("fullhands.moves.standing", "Standing"))["empty"]
-        self.assertIsInstance(found, staticmethod)
-        self.assertEqual(str(inspect.signature(found.__func__)), "(table)")
+    def test_static_methods(self):
+        for module, name, method, arguments in (("fullhands.moves.standing", "Standing", "empty", "(table)"),
+                                                ("fullhands.bounds.danger", "Danger", "from_tops", "(size, tops)")):
+            found = vars(own(module, name))[method]
+            self.assertIsInstance(found, staticmethod)
+            self.assertEqual(str(inspect.signature(found.__func__)), arguments)
 
 
 class Files(unittest.TestCase):

@@ -1,0 +1,1 @@
+"""The bounds on dishes with which a tree can get stuck."""

@@ -1,0 +1,1 @@
+"""What helps against getting stuck."""
