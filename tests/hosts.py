@@ -114,7 +114,8 @@ class HostPlay:
         members = {person for person, many in enumerate(self.model.hands)
                    if [holder for holder, _ in dishes].count(person) == many}
         while True:
-            left = {person for person in members if all(wanted in members for holder, wanted in dishes if holder == person)}
+            left = {person for person in members
+                    if all(wanted in members for holder, wanted in dishes if holder == person)}
             if left == members:
                 return bool(members)
             members = left

@@ -124,8 +124,9 @@ def small_trees():
         Table([2, 1, 1, 1], star, around, quick=[(0, 1)]),
         Table([2, 1, 1, 1], star, around, quick=star),
         Table([3, 1, 1, 1], star, around),
-        Table([2, 1, 1], row, [((0, 1), 2), ((1, 0), 1), ((1, 2), 1), ((2, 1), 1)], quick=[(1, 2)], shares=[((0, 1), 3)]),
-        # Safe, with a standing that cannot be come to: person 0 holds both dishes of kind 1, and person 1 the other one.
+        Table([2, 1, 1], row, [((0, 1), 2), ((1, 0), 1), ((1, 2), 1), ((2, 1), 1)],
+              quick=[(1, 2)], shares=[((0, 1), 3)]),
+        # Safe, with a standing that cannot be come to: person 0 holds the dishes of kind 1, and person 1 the other one.
         Table([2, 1, 1, 1], [(0, 1), (0, 2), (1, 3)], [((0, 1, 3), 1), ((1, 0, 2), 2)]),
         # Few dishes by a long way, or many by a short one.
         Table([1, 1, 1, 1], [(0, 1), (1, 2), (2, 3)],

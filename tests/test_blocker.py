@@ -32,7 +32,8 @@ def families():
         numbers = rule.sample(range(9), rule.randint(1, 7))
         if turn % 3 == 0:
             numbers = [number * FAR for number in numbers]
-        sets = [tuple(rule.sample(numbers, rule.randint(turn % 7 > 0, len(numbers)))) for _ in range(rule.randint(0, 7))]
+        sets = [tuple(rule.sample(numbers, rule.randint(turn % 7 > 0, len(numbers))))
+                for _ in range(rule.randint(0, 7))]
         yield sets + sets[:1] * (turn % 2)
 
 
@@ -46,7 +47,8 @@ class LeastSets(unittest.TestCase):
         self.assertLessEqual({0, 1, 2, 3, 4}, lengths)
 
     def test_order(self):
-        self.assertEqual(least_sets([(9, 3), (2, 8), (4,), (1, 5, 7), (0, 6)]), [(4,), (0, 6), (2, 8), (3, 9), (1, 5, 7)])
+        self.assertEqual(least_sets([(9, 3), (2, 8), (4,), (1, 5, 7), (0, 6)]),
+                         [(4,), (0, 6), (2, 8), (3, 9), (1, 5, 7)])
         self.assertEqual(least_sets([(1, 0, 2), (12, 11)]), [(11, 12), (0, 1, 2)])
 
     def test_subsets(self):

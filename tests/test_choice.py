@@ -35,8 +35,8 @@ class Choices(unittest.TestCase):
             self.assertEqual(expected, sorted(expected))
 
     def test_three_hosts(self):
-        program = read_program("host send 1 of 0 ; send 1 of 1\nhost send 1 of 0\nhost again 9 ( again 2 ( send 1 of 2 ; "
-                               "send 1 of 0 ) ) ; send 1 of 5")
+        program = read_program("host send 1 of 0 ; send 1 of 1\nhost send 1 of 0\n"
+                               "host again 9 ( again 2 ( send 1 of 2 ; send 1 of 0 ) ) ; send 1 of 5")
         self.assertEqual(every(program), [(0, 0, 0), (0, 0, 1), (0, 0, 2), (1, 0, 0), (1, 0, 1), (1, 0, 2)])
 
     def test_one_host(self):
@@ -64,7 +64,8 @@ class ChoiceTable(unittest.TestCase):
             self.check(table(), program, (0, 0))
 
     def test_example(self):
-        text = "host send 30 of 1 and 2 of 0 window 25 ; send 9 of 2\nhost again 4 ( send 7 of 0 ; send 24 of 1 window 3 )"
+        text = "host send 30 of 1 and 2 of 0 window 25 ; send 9 of 2\n" \
+               "host again 4 ( send 7 of 0 ; send 24 of 1 window 3 )"
         found = choice_table(table(), read_program(text), (0, 1))
         kinds = (((2, 1), 24), ((0, 1, 2), 2), ((2, 1), 24))
         self.assertEqual(fields(found), ((1, 2, 3), ((0, 1), (1, 2)), kinds, (), (((0, 1), 24), ((2,), 3))))
@@ -89,7 +90,8 @@ class ChoiceTable(unittest.TestCase):
 
     def test_strange_choices(self):
         """Ahead of kinds that the table does not have."""
-        for text in ("host send 1 of 0 ; send 1 of 1\nhost send 1 of 2", "host send 1 of 5 ; send 1 of 1\nhost send 1 of 4"):
+        for text in ("host send 1 of 0 ; send 1 of 1\nhost send 1 of 2",
+                     "host send 1 of 5 ; send 1 of 1\nhost send 1 of 4"):
             program = read_program(text)
             for choice in ((), (0,), (0, 0, 0), (2, 0), (0, 1), (-1, 0), (0, -1), (-2, 0), (FAR, 0), (0, -FAR)):
                 for form in (tuple, list):
@@ -103,7 +105,8 @@ class ChoiceTable(unittest.TestCase):
             for choice in every(program):
                 self.assertEqual(refused(choice_table, table(), program, choice), no_such("kind"))
         self.assertIsNone(refused(choice_table, table(), read_program("host send 1 of 2"), (0,)))
-        self.assertEqual(refused(choice_table, Table([1], [], []), read_program("host send 1 of 0"), (0,)), no_such("kind"))
+        program = read_program("host send 1 of 0")
+        self.assertEqual(refused(choice_table, Table([1], [], []), program, (0,)), no_such("kind"))
 
 
 class Moves(unittest.TestCase):
@@ -127,8 +130,8 @@ class Moves(unittest.TestCase):
             self.assertEqual(total_moves(ground, thawed_program(program)), total)
 
     def test_agains_in_agains(self):
-        text = "host send 2 of 0 ; again 5 ( send 1 of 1 ; again 7 ( send 3 of 2 and 1 of 0 window 1 ; send 1 of 0 ) ) ; " \
-               "send 1 of 2\nhost again 2 ( send 1 of 0 )"
+        text = "host send 2 of 0 ; again 5 ( send 1 of 1 ; again 7 ( send 3 of 2 and 1 of 0 window 1 ; " \
+               "send 1 of 0 ) ) ; send 1 of 2\nhost again 2 ( send 1 of 0 )"
         program = read_program(text)
         inner = 7 * (3 * 2 + 3 + 3)
         self.assertEqual([first_moves(table(), program, 0, send) for send in range(5)],
@@ -158,8 +161,8 @@ class Moves(unittest.TestCase):
         self.assertEqual((first_moves(ground, program, 0, 1), total_moves(ground, program)), (4, 6000))
 
     def test_order_of_errors(self):
-        good = read_program("host send 1 of 0 ; again 2 ( send 1 of 1 )\nhost send 1 of 2")
-        bad = read_program("host send 1 of 0 ; again 2 ( send 1 of 1 )\nhost send 1 of 2 ; again 2 ( send 1 of 0 and 1 of 3 )")
+        text = "host send 1 of 0 ; again 2 ( send 1 of 1 )\nhost send 1 of 2"
+        good, bad = read_program(text), read_program(text + " ; again 2 ( send 1 of 0 and 1 of 3 )")
         for program in (good, bad):
             for host in (-1, 2, FAR, -FAR):
                 for send in (-1, 0, 5, FAR):

@@ -51,7 +51,8 @@ class Dealings(unittest.TestCase):
                 forms.add((table.is_tree(), table.is_round(), bool(table.shares)))
         self.assertLessEqual({0, 1, 2}, lengths)
         self.assertGreater(max(lengths), 10)
-        self.assertLessEqual({(True, False, False), (True, False, True), (False, True, False), (False, True, True)}, forms)
+        self.assertLessEqual({(True, False, False), (True, False, True), (False, True, False), (False, True, True)},
+                             forms)
 
     def test_each_index(self):
         for table, expected, lot in lots_to_count():
@@ -66,7 +67,8 @@ class Dealings(unittest.TestCase):
         """Four people with two hands each, and two kinds each way."""
         row = (0, 1, 2, 3)
         for most in (3, 4, 5, 8):
-            table = Table([2] * 4, ROW, [(row, most), (row[::-1], most), ((1, 2, 3), 2), ((2, 1, 0), 24)], shares=[((0, 1), 7)])
+            kinds = [(row, most), (row[::-1], most), ((1, 2, 3), 2), ((2, 1, 0), 24)]
+            table = Table([2] * 4, ROW, kinds, shares=[((0, 1), 7)])
             found = listed(table, row)
             self.assertEqual(found, sorted(set(found)))
             self.assertEqual(count_dealings(table, row), len(found))
@@ -139,9 +141,9 @@ class Errors(unittest.TestCase):
 
     def test_wrong_dealings(self):
         """They come ahead of what is too great."""
+        ways = [(0, 1), (1, 2, 3), (1, 0), (3, 2, 1, 0), (0, 1), (1, 0)]
         for kinds, hands in ((2, 1), (6, 1), (2, 4), (6, 4)):
-            table = Table([hands] * 4, ROW, [((0, 1), 24), ((1, 2, 3), 24), ((1, 0), 24), ((3, 2, 1, 0), 24), ((0, 1), 24),
-                                             ((1, 0), 24)][:kinds])
+            table = Table([hands] * 4, ROW, [(way, 24) for way in ways[:kinds]])
             for rows in ((), [()] * 3, [[0] * kinds] * 3, [[hands] + [0] * (kinds - 1)] * 3, [[FAR] * kinds] * 3,
                          [[-1] * kinds] * 3):
                 self.assertEqual(refused(index_of, table, (0, 1, 2), rows), BAD_DEALING)
@@ -166,7 +168,8 @@ class Errors(unittest.TestCase):
                 self.assertEqual(found[2], expected or no_such("dealing"))
         kinds = both_ways + [((1, 2), 24), ((2, 1), 24)]
         dealing = [[4, 0, 0, 0], [0, 4, 0, 0], [0, 0, 0, 1]]
-        self.assertEqual(self.calls(Table([4, 4, 1], [(0, 1), (1, 2)], kinds), (0, 1, 2), dealing), [too_great("hands")] * 4)
+        table = Table([4, 4, 1], [(0, 1), (1, 2)], kinds)
+        self.assertEqual(self.calls(table, (0, 1, 2), dealing), [too_great("hands")] * 4)
         dealing = [row + [0] for row in dealing]
         table = Table([4, 4, 1], [(0, 1), (1, 2)], kinds + [((0, 1), 1)])
         self.assertEqual(self.calls(table, (0, 1, 2), dealing), [too_great("kinds")] * 4)

@@ -152,7 +152,8 @@ class SomePrograms(Checks):
     def test_an_odd_number_of_moves(self):
         """Kind 2 makes 3 moves for each dish, so that 201 moves are needed."""
         table = Table([1, 1, 1], ROW, [((0, 1), 0), ((1, 0), 0), ((0, 1, 2), 0)])
-        for before, expected in ((f"send 63 of 2 ; send 4 of 0", 199), (f"send 66 of 2", 200), (f"send 65 of 2 ; send 2 of 0", 201)):
+        for before, expected in (("send 63 of 2 ; send 4 of 0", 199), ("send 66 of 2", 200),
+                                 ("send 65 of 2 ; send 2 of 0", 201)):
             program = read_program(f"host {before} ; send 1 of 1\nhost send 1 of 0")
             self.assertEqual(moves_to_knot(table, program), expected)
             expected_error = too_great("moves") if expected > 200 else None
@@ -181,7 +182,8 @@ class SomePrograms(Checks):
 
     def test_order_of_errors(self):
         kinds = [((0, 1), 1), ((1, 0), 1)]
-        good, bad = read_program("host send 1 of 1"), read_program("host send 1 of 0 ; again 2 ( send 1 of 0 and 1 of 2 )")
+        good = read_program("host send 1 of 1")
+        bad = read_program("host send 1 of 0 ; again 2 ( send 1 of 0 and 1 of 2 )")
         ring = Table([1, 1, 1], RING, kinds, quick=RING)
         for call in (judge_program, moves_to_knot, schedule_to_knot):
             for table in (ring, Table([1, 1, 1], RING, kinds), Table([1, 1], [(0, 1)], kinds),

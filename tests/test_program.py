@@ -47,8 +47,8 @@ class Text(unittest.TestCase):
                    ((("again", 2, (("again", 3, (("again", 4, (SEND,)),)),)),),))
         self.check("host again 2 ( send 1 of 0 ; again 3 ( again 4 ( send 1 of 0 ) ; send 1 of 0 ) ; send 1 of 0 )",
                    ((("again", 2, (SEND, ("again", 3, (("again", 4, (SEND,)), SEND)), SEND)),),))
-        self.check("host again 1 ( again 1 ( again 1 ( send 1 of 0 ) ) ) ; again 1 ( again 1 ( again 1 ( send 1 of 0 ) ) )",
-                   ((("again", 1, (("again", 1, (("again", 1, (SEND,)),)),)),) * 2,))
+        three = "again 1 ( again 1 ( again 1 ( send 1 of 0 ) ) )"
+        self.check(f"host {three} ; {three}", ((("again", 1, (("again", 1, (("again", 1, (SEND,)),)),)),) * 2,))
 
     def test_great_numbers(self):
         self.check(f"host send {HUGE} of 0 and {HUGE} of 1 window {HUGE} ; again {HUGE} ( send 1 of 0 )",
@@ -189,13 +189,16 @@ class TooGreatPrograms(unittest.TestCase):
         self.assertEqual(refused(read_program, seven + " ; " + self.DEEP), too_great("depth"))
         self.assertEqual(refused(read_program, "\n".join([seven] * 4)), too_great("hosts"))
         self.assertEqual(refused(read_program, "\n".join(["host " + self.DEEP] * 4)), too_great("hosts"))
-        self.assertEqual(refused(read_program, "\n".join(["host " + self.DEEP + " ; " + self.DEEP] * 3)), too_great("depth"))
+        deep = "\n".join(["host " + self.DEEP + " ; " + self.DEEP] * 3)
+        self.assertEqual(refused(read_program, deep), too_great("depth"))
 
     def test_behind_every_bad_program(self):
-        for text in ("\n".join(["host send 1 of 0"] * 5), "host " + self.DEEP, "host " + " ; ".join(["send 1 of 0"] * 9)):
-            lines = len(text.split("\n"))
-            self.assertEqual(refused(read_program, text + "\nhost send 1 of 6"), bad_program(lines + 1, 4))
-            self.assertEqual(refused(read_program, text + " ; send"), bad_program(lines, len(text.split("\n")[-1].split()) + 2))
+        for text in ("\n".join(["host send 1 of 0"] * 5), "host " + self.DEEP,
+                     "host " + " ; ".join(["send 1 of 0"] * 9)):
+            lines = text.split("\n")
+            self.assertEqual(refused(read_program, text + "\nhost send 1 of 6"), bad_program(len(lines) + 1, 4))
+            words = len(lines[-1].split(" "))
+            self.assertEqual(refused(read_program, text + " ; send"), bad_program(len(lines), words + 2))
 
     def test_agains_side_by_side_are_not_deep(self):
         line = "host " + " ; ".join(["again 1 ( send 1 of 0 )"] * 6)

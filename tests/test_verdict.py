@@ -200,7 +200,7 @@ class StuckHolds(unittest.TestCase):
                 self.check(other, lot, dealing, run)
         for numbers in itertools.product((-FAR, -1, 0, 1, FAR), repeat=3):
             for table in tables + [self.table()]:
-                for lot, dealing in ((numbers, [numbers] * 3), (numbers[:2], [numbers, numbers]), ((0, 1), [numbers] * 2),
+                for lot, dealing in ((numbers, [numbers] * 3), (numbers[:2], [numbers] * 2), ((0, 1), [numbers] * 2),
                                      ((), []), ((0, 1), [(), ()]), ((0, 1), [])):
                     verdict = StuckVerdict(lot, dealing, [("enter", 0), ("pass",) + numbers[:2]])
                     self.assertIs(verdict.holds(table), False)
@@ -245,7 +245,8 @@ class SafeHolds(unittest.TestCase):
 
     def test_changed_lots(self):
         for table, ground, shorts in self.verdicts():
-            pairs = [(lot, lot) for lot in Model(table).lots()] + [((), ()), ((0,), (0,)), ((-1, 0), (0,)), ((0, FAR), (0,))]
+            pairs = [(lot, lot) for lot in Model(table).lots()]
+            pairs += [((), ()), ((0,), (0,)), ((-1, 0), (0,)), ((0, FAR), (0,))]
             for changed in changed_rows(shorts, shorts + tuple(pairs)):
                 self.check(table, ground, changed)
             for at, (lot, people) in enumerate(shorts):
@@ -255,7 +256,8 @@ class SafeHolds(unittest.TestCase):
                 self.check(table, ground, order)
 
     def test_on_other_tables(self):
-        tables = [table for table, _, _ in self.verdicts()] + [Table([1, 1, 1, 1], [(0, 1), (1, 2), (2, 3), (0, 3)], [])]
+        tables = [table for table, _, _ in self.verdicts()]
+        tables.append(Table([1, 1, 1, 1], [(0, 1), (1, 2), (2, 3), (0, 3)], []))
         for _, ground, shorts in self.verdicts():
             for table in tables:
                 self.check(table, ground, shorts)
@@ -305,6 +307,11 @@ class RoundHolds(unittest.TestCase):
                 found.add(expected)
                 self.assertIs(SafeVerdict("round", shorts).holds(table), expected, (first, second))
         self.assertEqual(found, {True, False})
+
+    def test_other_grounds(self):
+        shorts = [((0, 1, 2), (2,)), ((0, 1, 2), (1, 2))]
+        for ground in ("Round", "", "round ", "rounds", "web", "tree", "ring"):
+            self.assertIs(SafeVerdict(ground, shorts).holds(self.table()), False)
 
     def test_pairs(self):
         pair = ((0, 1, 2), (2,))
@@ -438,7 +445,8 @@ class Text(unittest.TestCase):
                      "short  0 by 0", "short 0  by 0", "short 0 by  0", "short 0 by 0 ", " short 0 by 0",
                      "short 0 by 0 by 0", "short 0 by by 0", "short 0 1", "short 00 by 0", "short 0 by 00",
                      "short 100 by 0", "short 0 by 100", "short -1 by 0", "short 0 by -1", "short x by 0",
-                     "short 0 to 0", "Short 0 by 0", "short 0 By 0", "by 0", "enter 0", "lot 0 1", "deal 0 1", "safe web"):
+                     "short 0 to 0", "Short 0 by 0", "short 0 By 0", "by 0", "enter 0", "lot 0 1", "deal 0 1",
+                     "safe web"):
             self.assertEqual(refused(read_verdict, SAFE + "\n" + line), bad_text(5), line)
             self.assertEqual(refused(read_verdict, "safe tree\n" + line + "\nnonsense"), bad_text(2), line)
         self.assertEqual(refused(read_verdict, SAFE + "\n"), bad_text(5))

@@ -44,7 +44,6 @@ class Danger:
         return isinstance(other, Danger) and self.size == other.size and self._rows == other._rows
 
     def beside(self, other):
-        need_size(self.size + other.size)
         return Danger(self.size + other.size, [row + more for row in self for more in other])
 
     def tops(self):

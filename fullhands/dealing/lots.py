@@ -34,8 +34,7 @@ def supply(table, lot, people):
 
 
 def is_short(table, lot, people):
-    """True if the people are a short set of the lot, in ascending order. Raises BadLot for the lot."""
-    need_lot(table, lot)
+    """True if the people are a short set of this lot, in ascending order."""
     if list(people) != sorted(set(people)) or not is_part(lot, people):
         return False
     return lot_hands(table, people) > supply(table, lot, people)
