@@ -52,7 +52,8 @@ def led_to(standing):
     while at < len(line):
         present = line[at]
         moves = list(possible(present, enters=False))
-        for move in moves:
+        # A copy, since the loop adds to the line that the moves were made from.
+        for move in list(moves):
             later = after(present, move)
             if later.places not in found:
                 found[later.places] = (present.places, move)
@@ -72,7 +73,8 @@ def led_from(standing):
     while at < len(line):
         present = line[at]
         pairs = list(back(present))
-        for move, earlier in pairs:
+        # A copy, since the loop adds to the line that the moves were made from.
+        for move, earlier in list(pairs):
             if earlier.places not in found:
                 found[earlier.places] = (present.places, move)
                 line.append(earlier)
