@@ -27,6 +27,11 @@ def no_lot(table):
     return SafeVerdict("web", shorts)
 
 
+def dealt_lots(table):
+    """The slow lots that can be dealt, in their order."""
+    return [lot for lot in lots(table, slow=True) if deal(table, lot) is not None]
+
+
 def stuck_by(table, lot, dealing):
     """The stuck verdict with a core of this dealing of a slow lot of a tree."""
     people, rows = core(table, lot, dealing)

@@ -6,7 +6,7 @@ from fullhands.ground.check import need_kind, need_person, reached_from
 
 def lots(table, *, slow=False):
     """All lots of the table, or only the slow ones, by the number of their people and then in tuple order."""
-    found = [members for members in people_sets(table.people) if is_lot(table, members)]
+    found = [members for members in sets_below(table.people) if is_lot(table, members)]
     if slow:
         found = [lot for lot in found if is_slow(table, lot)]
     return sorted(found, key=lambda lot: (len(lot), lot))
@@ -78,9 +78,9 @@ def can_get(table, lot, kind, person):
     return person in lot and table.wants(kind, person) in lot
 
 
-def people_sets(people):
-    """All sets of the people 0 to people - 1, each in ascending order."""
+def sets_below(many):
+    """All sets of the numbers from 0 to many - 1, each in ascending order."""
     found = [()]
-    for person in range(people):
-        found = found + [members + (person,) for members in found]
+    for number in range(many):
+        found = found + [members + (number,) for members in found]
     return found

@@ -1,7 +1,7 @@
 """The least dishes with which a tree gets stuck."""
 
 from fullhands.dealing.deal import deal, short_set
-from fullhands.dealing.judge import stuck_by
+from fullhands.dealing.judge import dealt_lots, stuck_by
 from fullhands.dealing.lots import lot_hands, lots
 from fullhands.ground.check import need_tree
 
@@ -9,8 +9,7 @@ from fullhands.ground.check import need_tree
 def least_dishes(table):
     """The least dishes of the tree, or None if it is safe. Raises WrongGround."""
     need_tree(table)
-    dealt = [lot for lot in lots(table, slow=True) if deal(table, lot) is not None]
-    return min([lot_hands(table, lot) for lot in dealt], default=None)
+    return min([lot_hands(table, lot) for lot in dealt_lots(table)], default=None)
 
 
 def dishes_certificate(table):

@@ -1,0 +1,1 @@
+"""Trees that are hung at people of other trees."""

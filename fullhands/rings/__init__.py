@@ -1,0 +1,1 @@
+"""Tables with one hand each, round tables and long rows."""
