@@ -110,6 +110,10 @@ class HostPlay:
         return found
 
     def has_knot(self, state):
+        return bool(self.knot(state))
+
+    def knot(self, state):
+        """The people of the greatest knot."""
         dishes = self.dishes(state)
         members = {person for person, many in enumerate(self.model.hands)
                    if [holder for holder, _ in dishes].count(person) == many}
@@ -117,7 +121,7 @@ class HostPlay:
             left = {person for person in members
                     if all(wanted in members for holder, wanted in dishes if holder == person)}
             if left == members:
-                return bool(members)
+                return members
             members = left
 
     def steps(self, state):

@@ -59,6 +59,26 @@ FUNCTIONS = {
         "alike_bounds": "(one, other)",
     },
     "fullhands.remedies.blocker": {"least_sets": "(sets)", "blocker": "(sets)"},
+    "fullhands.remedies.cures": {
+        "least_lots": "(table)", "reliefs": "(table)", "quickenings": "(table)", "barrings": "(table)",
+        "cheapest_relief": "(table, prices)", "cheapest_quickening": "(table, prices)",
+        "cheapest_barring": "(table, prices)",
+    },
+    "fullhands.remedies.hire": {"least_hands": "(table)", "cheapest_hands": "(table, prices)"},
+    "fullhands.rings.wants": {"rings_of_wants": "(table)", "judge_single": "(table)"},
+    "fullhands.rings.roundtable": {
+        "round_order": "(table)", "goes_forward": "(table, kind)", "judge_round": "(table)",
+    },
+    "fullhands.rings.longrow": {
+        "row_least": "(pattern, many, forward, backward, both=None)",
+        "row_first_stuck": "(pattern, forward, backward, both=None)",
+        "row_table": "(pattern, many, forward, backward, both=None)",
+    },
+    "fullhands.hanging.branch": {
+        "dish_loads": "(table, person)", "effort_loads": "(table, person)",
+        "least_with": "(table, hung, *, by_effort=False)", "chain_loads": "(piece, outer, inner, many)",
+    },
+    "fullhands.hanging.hang": {"hang": "(main, person, branch, port)", "branches": "(table, person)"},
 }
 GENERATORS = ["possible", "back", "trace", "choices", "dealings"]
 METHODS = {
@@ -85,10 +105,35 @@ METHODS = {
         "__or__": "(self, other)", "__and__": "(self, other)", "__eq__": "(self, other)", "beside": "(self, other)",
         "tops": "(self)", "parting": "(self, other)",
     },
+    ("fullhands.hanging.loads", "Loads"): {
+        "__init__": "(self, entries)", "__add__": "(self, other)", "__eq__": "(self, other)",
+        "__getitem__": "(self, at)", "__iter__": "(self)", "first_difference": "(self, other)",
+        "times": "(self, many)",
+    },
+    ("fullhands.seen.watch", "Watch"): {
+        "__init__": "(self, table)", "told": "(self)", "tell": "(self, event)", "fact": "(self, moment, claim)",
+        "worlds": "(self, moment)", "witness": "(self, moment, places)", "ask": "(self, moment, claim)",
+        "could": "(self, event)",
+    },
+    ("fullhands.seen.sketch", "Sketch"): {
+        "__init__": "(self, table, more_hands, more_mosts)", "harsh": "(self)", "mild": "(self)",
+        "ask_safe": "(self)", "dishes_range": "(self)", "told_hands": "(self, person, many)",
+        "told_most": "(self, kind, most)",
+    },
+    ("fullhands.hosts.play", "Play"): {
+        "__init__": "(self, table, program)", "open_moves": "(self)", "move": "(self, step)",
+        "position": "(self, host)", "entered": "(self, host)", "held_by": "(self, person)", "play_knot": "(self)",
+    },
+    ("fullhands.desk.desk", "Desk"): {
+        "__init__": "(self, table)", "do": "(self, line)", "attempt": "(self, lines)", "undo": "(self)",
+        "redo": "(self)", "log": "(self)", "present": "(self)",
+    },
 }
 PROPERTIES = {
     ("fullhands.ground.table", "Table"): ["people"],
     ("fullhands.moves.standing", "Standing"): ["total", "left"],
+    ("fullhands.seen.watch", "Watch"): ["now"],
+    ("fullhands.hosts.play", "Play"): ["finished", "moves_made"],
 }
 
 
@@ -117,7 +162,9 @@ class Interface(unittest.TestCase):
 
     def test_static_methods(self):
         for module, name, method, arguments in (("fullhands.moves.standing", "Standing", "empty", "(table)"),
-                                                ("fullhands.bounds.danger", "Danger", "from_tops", "(size, tops)")):
+                                                ("fullhands.bounds.danger", "Danger", "from_tops", "(size, tops)"),
+                                                ("fullhands.hanging.loads", "Loads", "none", "()"),
+                                                ("fullhands.desk.desk", "Desk", "replayed", "(table, log)")):
             found = vars(own(module, name))[method]
             self.assertIsInstance(found, staticmethod)
             self.assertEqual(str(inspect.signature(found.__func__)), arguments)

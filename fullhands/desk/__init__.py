@@ -1,0 +1,1 @@
+"""A desk that is told what to do by lines."""

@@ -1,0 +1,1 @@
+"""Tables that are seen from outside, or known in part."""
