@@ -287,7 +287,9 @@ class ChainLoads(unittest.TestCase):
         for many, entries in ((1, [4, None, None, None]), (2, [4, 8, None, None]), (3, [4, 8, 12, None])):
             self.assertEqual(list(chain_loads(piece, 0, 1, many)), entries)
             self.assertEqual(list(dish_loads(*chained(piece, 0, 1, many))), entries)
-        self.assertEqual(list(chain_loads(piece, 0, 1, HUGE)), [4, 8, 12, None])
+        # With a fourth piece the other three can get stuck at its inner port, whatever hands the outer one has.
+        self.assertEqual(list(chain_loads(piece, 0, 1, 4)), [4, 8, 12, 12])
+        self.assertEqual(list(chain_loads(piece, 0, 1, HUGE)), [4, 8, 12, 12])
 
     def test_errors(self):
         tree, ring = Table([1, 1, 1], ROW, PAIR), Table([1] * 3, RING, PAIR)
