@@ -74,15 +74,12 @@ def reached_unseen(steps, starts):
 
 def leading_unseen(steps, reached, goals):
     """Those of the places reached from which unseen passes lead to one of these goals among them."""
-    earlier = {places: [] for places in reached}
-    for places in reached:
-        for _, later in steps.unseen(places):
-            earlier[later].append(places)
     found = {places: True for places in goals}
-    line = list(goals)
-    while line:
-        line = sorted({before for places in line for before in earlier[places] if before not in found})
-        found.update({places: True for places in line})
+    more = list(goals)
+    while more:
+        left = [places for places in reached if places not in found]
+        more = [places for places in left if any([later in found for _, later in steps.unseen(places)])]
+        found.update({places: True for places in more})
     return found
 
 
