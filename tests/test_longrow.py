@@ -53,6 +53,16 @@ class Least(unittest.TestCase):
                 self.assertEqual(row_least(pattern, 26, forward, backward), expected[26])
         self.assertEqual(len(answers), 4)
 
+    def test_all_bounds(self):
+        for pattern, both in (((1,), None), ((2, 1), None), ((4, 3, 1), 9), ((3, 4), 24)):
+            for forward, backward in itertools.product(range(25), repeat=2):
+                expected = least_by_people(pattern, 9, forward, backward, both)
+                self.assertEqual(row_least(pattern, 9, forward, backward, both), expected[9])
+                self.assertEqual(row_least(pattern, 4, forward, backward, both), expected[4])
+        for pattern, both in itertools.product(((1,), (2, 1), (4, 3, 1)), range(25)):
+            expected = least_by_people(pattern, 9, 24, 24, both)
+            self.assertEqual([row_least(pattern, many, 24, 24, both) for many in range(2, 10)], expected[2:])
+
     def test_first_stuck(self):
         firsts = set()
         for pattern, forward, backward, both in bounds():
